@@ -1,0 +1,1 @@
+"""Cutting streams of items into batches by limits."""

@@ -1,0 +1,47 @@
+"""The interface: each name is defined in the file under which the document lists it."""
+
+import importlib
+import inspect
+import pathlib
+import unittest
+
+import batchlimits
+
+FUNCTIONS = {
+    "items": {
+        "is_item": "(value)", "is_traffic": "(value)", "times_of": "(traffic)",
+        "measures_of": "(traffic, start, end)", "repeated": "(traffic, times)",
+    },
+    "rules": {
+        "is_condition": "(value)", "is_rule": "(value)", "any_of": "(*conditions)", "all_of": "(*conditions)",
+        "limits_of": "(condition)", "reaches": "(traffic, condition, start, end)",
+        "first_reach": "(traffic, condition, start)",
+    },
+}
+ERRORS = (
+    "BatchError", "InvalidItem", "InvalidTraffic", "InvalidStretch", "InvalidCondition", "InvalidRule",
+    "InvalidMeasure", "InvalidGap", "InvalidGaps", "InvalidEdit", "InvalidPattern", "InvalidNumber",
+    "InvalidCommand", "NothingToUndo", "Blocked", "Unexplained", "InvalidText", "TooLarge",
+)
+
+
+class InterfaceTest(unittest.TestCase):
+    def test_functions_are_defined_in_their_files(self):
+        for file, functions in FUNCTIONS.items():
+            module = importlib.import_module(f"batchlimits.{file}")
+            for name, signature in functions.items():
+                with self.subTest(file=file, name=name):
+                    function = getattr(module, name)
+                    self.assertTrue(inspect.isfunction(function))
+                    self.assertEqual(function.__module__, module.__name__)
+                    self.assertEqual(str(inspect.signature(function)), signature)
+
+    def test_errors_are_defined_in_their_file(self):
+        module = importlib.import_module("batchlimits.errors")
+        for name in ERRORS:
+            with self.subTest(name=name):
+                self.assertEqual(getattr(module, name).__module__, "batchlimits.errors")
+
+    def test_the_package_stands_beside_the_tests(self):
+        folder = pathlib.Path(batchlimits.__file__).parent
+        self.assertEqual(folder, pathlib.Path(__file__).parent.parent / "batchlimits")
