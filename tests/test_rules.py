@@ -10,7 +10,8 @@ from batchlimits.rules import (
 )
 from tests.test_items import measured_slowly, wrong_traffics
 from tests.values import (
-    HUGE, Plain, nested_conditions, nested_lists, odd_values, ones, random_condition, random_traffic, source, weights,
+    HUGE, Equal, Plain, nested_conditions, nested_lists, odd_values, ones, random_condition, random_traffic, source,
+    weights,
 )
 
 LIMIT = ("items", 3)
@@ -43,7 +44,7 @@ def wrong_conditions():
     return odd_values() + [
         list(LIMIT), [LIMIT], (LIMIT,), LIMIT + (1,), ("items",), ("items", 3, 3), (LIMIT, LIMIT), (3, "items"),
         ("Items", 3), ("items ", 3), ("", 3), ("any", 3), ("all", 3), ("none", 3), (b"items", 3), (None, 3),
-        (["items"], 3), ({"items"}, 3),
+        (["items"], 3), ({"items"}, 3), (Equal(), 3), (Equal(), [LIMIT, LIMIT]), (Equal(), Equal()),
         ("any", LIMIT), ("any", (LIMIT, LIMIT)), ["any", [LIMIT, LIMIT]], ("any", [LIMIT, LIMIT], []),
         ("or", [LIMIT, LIMIT]), ("Any", [LIMIT, LIMIT]), ("items", [LIMIT, LIMIT]), (["any"], [LIMIT, LIMIT]),
         ("any", {0: LIMIT, 1: LIMIT}), ("any", {LIMIT, HEAVY}),

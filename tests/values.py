@@ -41,6 +41,13 @@ class Plain:
     pass
 
 
+class Equal:
+    """An object that says that it is equal to everything."""
+
+    def __eq__(self, other):
+        return True
+
+
 def odd_values():
     """Return values of all kinds, none of which is an item, a limit, a condition or a rule."""
     return [
