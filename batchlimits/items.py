@@ -7,28 +7,36 @@ MOST_ITEMS = 40
 MOST_LETTERS = 8
 
 
-def is_kind(value):
-    """Return whether any value is a string of 1 to 8 lowercase letters."""
-    if not isinstance(value, str) or not 1 <= len(value) <= MOST_LETTERS:
-        return False
-    return all(["a" <= letter <= "z" for letter in value])
+def are_items(values):
+    """Return whether every value of a list is an item (pause, weight, kind, marked)."""
+    # Each call that takes a traffic judges it anew, so this calls no function of its own for a part of an item.
+    for value in values:
+        if not isinstance(value, tuple) or len(value) != 4:
+            return False
+        pause, weight, kind, marked = value
+        # To Python, True and False are integers, too.
+        if not isinstance(pause, int) or pause is True or pause is False or not 0 <= pause <= GREATEST:
+            return False
+        if not isinstance(weight, int) or weight is True or weight is False or not 0 <= weight <= GREATEST:
+            return False
+        if not isinstance(kind, str) or len(kind) > MOST_LETTERS:
+            return False
+        # An empty string is not lower, either.
+        if not kind.islower() or not kind.isalpha() or not kind.isascii():
+            return False
+        if marked is not True and marked is not False:
+            return False
+    return True
 
 
 def is_item(value):
-    """Return whether any value is an item (pause, weight, kind, marked)."""
-    if not isinstance(value, tuple) or len(value) != 4:
-        return False
-    pause, weight, kind, marked = value
-    if not is_within(pause, 0, GREATEST) or not is_within(weight, 0, GREATEST):
-        return False
-    return is_kind(kind) and isinstance(marked, bool)
+    """Return whether any value is an item."""
+    return are_items([value])
 
 
 def is_traffic(value):
     """Return whether any value is a traffic: a list of at most 40 items."""
-    if not isinstance(value, list) or len(value) > MOST_ITEMS:
-        return False
-    return all([is_item(part) for part in value])
+    return isinstance(value, list) and len(value) <= MOST_ITEMS and are_items(value)
 
 
 def check_traffic(traffic):
@@ -65,7 +73,7 @@ def measured(stretch):
     # The pause of the first item lies ahead of the stretch.
     age = sum([item[0] for item in stretch[1:]])
     kinds = len({item[2] for item in stretch})
-    marks = len([item for item in stretch if item[3]])
+    marks = sum([item[3] for item in stretch])
     return (len(stretch), weight, age, kinds, marks)
 
 

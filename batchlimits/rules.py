@@ -1,6 +1,7 @@
 """Conditions and rules: judging them, joining conditions and reaching them."""
 
 from batchlimits.checks import GREATEST, is_within
+from batchlimits.ends import first_ends
 from batchlimits.errors import InvalidCondition, InvalidGap, TooLarge
 from batchlimits.items import check_stretch, check_traffic, is_gap, measured
 
@@ -133,7 +134,5 @@ def first_reach(traffic, condition, start):
     check_condition(condition)
     if not is_gap(traffic, start):
         raise InvalidGap("the start is a gap from 0 to the number of items")
-    for end in range(start + 1, len(traffic) + 1):
-        if is_reached(condition, measured(traffic[start:end])):
-            return end
-    return None
+    end = first_ends(traffic, condition)[start]
+    return end if end <= len(traffic) else None

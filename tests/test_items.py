@@ -1,6 +1,7 @@
 """Points 5, 6, 14, 15 and 16: items, traffic, stretches and their measures, repeating."""
 
 import copy
+import itertools
 import unittest
 
 from batchlimits.errors import InvalidNumber, InvalidStretch, InvalidTraffic, TooLarge
@@ -24,6 +25,17 @@ def wrong_traffics():
         {0: ITEM}, {ITEM}, ones(41), ones(400), ones(39) + [(0, 1, "a", 0)],
         [with_part(0, True)], [with_part(1, HUGE + 1)], [with_part(2, "A")], [with_part(3, 1)],
     ]
+
+
+def judged_slowly(value):
+    """Return whether a tuple of four values is an item, part by part as the definition says."""
+    pause, weight, kind, marked = value
+    for number in (pause, weight):
+        if not isinstance(number, int) or isinstance(number, bool) or number < 0 or number > HUGE:
+            return False
+    if not isinstance(kind, str) or len(kind) not in range(1, 9):
+        return False
+    return set(kind) <= set("abcdefghijklmnopqrstuvwxyz") and isinstance(marked, bool)
 
 
 class IsItemTest(unittest.TestCase):
@@ -50,6 +62,24 @@ class IsItemTest(unittest.TestCase):
                 with self.subTest(at=at, value=value):
                     self.assertIs(is_item(with_part(at, value)), False)
 
+    def test_letters_of_other_alphabets(self):
+        for letter in "\u00e9\u00df\u00aa\u0430\u03b1\uff41\u0131\u0301\u00b2\U0001d41a":
+            for kind in [letter, "a" + letter, letter + "a", letter * 8]:
+                with self.subTest(kind=kind):
+                    self.assertIs(is_item(with_part(2, kind)), False)
+
+    def test_every_single_sign_as_a_kind(self):
+        found = [chr(code) for code in range(0x3000) if is_item(with_part(2, chr(code)))]
+        self.assertEqual("".join(found), "abcdefghijklmnopqrstuvwxyz")
+
+    def test_all_choices_of_parts(self):
+        numbers = [0, 7, HUGE, HUGE + 1, -1, True, False, 2.0, None, "1", []]
+        kinds = ["a", "abcdefgh", "abcdefghi", "", "aB", "a b", "a1", b"a", None, ["a"], {}]
+        for value in itertools.product(numbers, numbers, kinds, [True, False, 0, 1, None, []]):
+            expected = judged_slowly(value)
+            self.assertIs(is_item(value), expected, value)
+            self.assertIs(is_traffic([ITEM, value]), expected, value)
+
     def test_wrong_forms(self):
         forms = [list(ITEM), ITEM[:3], ITEM + (1,), (ITEM,), [ITEM], dict(enumerate(ITEM))]
         for at, value in enumerate(odd_values() + forms):
@@ -67,6 +97,23 @@ class IsTrafficTest(unittest.TestCase):
         for at, value in enumerate(wrong_traffics()):
             with self.subTest(at=at):
                 self.assertIs(is_traffic(value), False)
+
+
+    def test_one_wrong_item_at_every_place(self):
+        for at in range(40):
+            for value in [None, list(ITEM), with_part(0, True), with_part(1, -1), with_part(2, []), with_part(3, 0)]:
+                traffic = ones(40)
+                traffic[at] = value
+                self.assertIs(is_traffic(traffic), False)
+
+    def test_traffic_that_was_changed_in_place_is_judged_anew(self):
+        traffic = ones(3)
+        self.assertIs(is_traffic(traffic), True)
+        traffic[1] = None
+        self.assertIs(is_traffic(traffic), False)
+        traffic[1] = ITEM
+        self.assertIs(is_traffic(traffic), True)
+        self.assertEqual(measures_of(traffic, 0, 3), (3, 4, 4, 1, 0))
 
 
 class TimesTest(unittest.TestCase):

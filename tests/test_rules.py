@@ -364,6 +364,22 @@ class FirstReachTest(unittest.TestCase):
             with self.subTest(at=at), self.assertRaises(InvalidCondition):
                 first_reach(TRAFFIC, value, 0)
 
+    def test_every_measure_on_long_traffic(self):
+        numbers = source(7)
+        letters = "abcdefghijklmnopqrst"
+        for _ in range(3):
+            traffic = [
+                (numbers.randrange(3), numbers.randrange(3), numbers.choice(letters), numbers.random() < 0.7)
+                for _ in range(40)
+            ]
+            for start in range(41):
+                measured = [measured_slowly(traffic, start, end) for end in range(start + 1, 41)]
+                for at, measure in enumerate(MEASURES):
+                    for bound in range(1, 41):
+                        reached = [measures[0] + start for measures in measured if measures[at] >= bound]
+                        found = first_reach(traffic, (measure, bound), start)
+                        self.assertEqual(found, min(reached, default=None))
+
     def test_wrong_gap(self):
         for start in [-1, 9, HUGE, -HUGE, True, False, 0.0, "0"]:
             with self.subTest(start=start), self.assertRaises(InvalidGap):
