@@ -1,7 +1,7 @@
 """Items and traffic: judging, measuring and repeating them."""
 
 from batchlimits.checks import GREATEST, is_within
-from batchlimits.errors import InvalidNumber, InvalidStretch, InvalidTraffic, TooLarge
+from batchlimits.errors import InvalidGap, InvalidNumber, InvalidStretch, InvalidTraffic, TooLarge
 
 MOST_ITEMS = 40
 MOST_LETTERS = 8
@@ -48,6 +48,12 @@ def check_traffic(traffic):
 def is_gap(traffic, value):
     """Return whether any value is a gap of a traffic."""
     return is_within(value, 0, len(traffic))
+
+
+def check_gap(traffic, value):
+    """Raise InvalidGap unless a value is a gap of a traffic."""
+    if not is_gap(traffic, value):
+        raise InvalidGap("a gap is an integer from 0 to the number of items")
 
 
 def check_stretch(traffic, start, end):

@@ -2,8 +2,8 @@
 
 from batchlimits.checks import GREATEST, is_within
 from batchlimits.ends import first_ends
-from batchlimits.errors import InvalidCondition, InvalidGap, TooLarge
-from batchlimits.items import check_stretch, check_traffic, is_gap, measured
+from batchlimits.errors import InvalidCondition, InvalidRule, TooLarge
+from batchlimits.items import check_gap, check_stretch, check_traffic, measured
 
 MEASURES = ("items", "weight", "age", "kinds", "marks")
 WIDE_MEASURES = ("weight", "age")
@@ -61,6 +61,12 @@ def check_condition(condition):
     """Raise InvalidCondition unless a value is a condition."""
     if not is_condition(condition):
         raise InvalidCondition("a condition is a limit, or any or all of 2 to 6 conditions, with at most 6 limits")
+
+
+def check_rule(rule):
+    """Raise InvalidRule unless a value is a rule."""
+    if not is_rule(rule):
+        raise InvalidRule("a rule is a tuple (goal, cap), each of them a condition or None")
 
 
 def copied(condition):
@@ -132,7 +138,6 @@ def first_reach(traffic, condition, start):
     """Return the least end for which the stretch from start reaches a condition, or None."""
     check_traffic(traffic)
     check_condition(condition)
-    if not is_gap(traffic, start):
-        raise InvalidGap("the start is a gap from 0 to the number of items")
+    check_gap(traffic, start)
     end = first_ends(traffic, condition)[start]
     return end if end <= len(traffic) else None

@@ -17,6 +17,26 @@ FUNCTIONS = {
         "limits_of": "(condition)", "reaches": "(traffic, condition, start, end)",
         "first_reach": "(traffic, condition, start)",
     },
+    "closings": {
+        "next_closing": "(traffic, rule, start)", "closings": "(traffic, rule, *, start=0)",
+        "rest_of": "(traffic, rule)", "reason_of": "(traffic, rule, gap)", "batch_of": "(traffic, rule, item)",
+        "walk_batches": "(traffic, rule)",
+    },
+    "rows": {
+        "meeting": "(traffic, rule, first, second)", "certain_closings": "(traffic, rule, low, high)",
+        "possible_closings": "(traffic, rule, low, high)", "kth_range": "(traffic, rule, low, high, number)",
+        "starts_with": "(traffic, rule, gap)",
+    },
+    "forms": {
+        "clauses_of": "(condition)", "normal_form": "(rule)", "idle_clauses": "(rule)",
+        "are_alike": "(rule, other)", "parting_traffic": "(rule, other)", "is_never_later": "(rule, other)",
+        "later_traffic": "(rule, other)",
+    },
+    "forced": {
+        "closings_with": "(traffic, rule, forced)", "added_by": "(traffic, rule, forced, gap)",
+        "costs_of": "(traffic, rule)", "fewest_forced": "(traffic, rule, told)",
+        "is_enough": "(traffic, rule, told, forced)",
+    },
 }
 ERRORS = (
     "BatchError", "InvalidItem", "InvalidTraffic", "InvalidStretch", "InvalidCondition", "InvalidRule",

@@ -6,6 +6,7 @@ import unittest
 
 from batchlimits.errors import InvalidNumber, InvalidStretch, InvalidTraffic, TooLarge
 from batchlimits.items import is_item, is_traffic, measures_of, repeated, times_of
+from tests.slow import measured_slowly
 from tests.values import HUGE, Plain, nested_lists, nested_tuples, odd_values, ones, random_traffic, source
 
 ITEM = (4, 2, "a", False)
@@ -141,20 +142,6 @@ class TimesTest(unittest.TestCase):
         times_of(traffic).append(1)
         self.assertEqual(times_of(traffic), [4, 9, 10])
         self.assertEqual(traffic, TRAFFIC)
-
-
-def measured_slowly(traffic, start, end):
-    """Return the measures of a stretch, item by item as the definition says."""
-    weight = age = marks = 0
-    kinds = []
-    for number in range(start, end):
-        pause, heavy, kind, marked = traffic[number]
-        weight += heavy
-        age += pause if number > start else 0
-        marks += 1 if marked else 0
-        if kind not in kinds:
-            kinds.append(kind)
-    return (end - start, weight, age, len(kinds), marks)
 
 
 class MeasuresTest(unittest.TestCase):

@@ -8,10 +8,11 @@ from batchlimits.errors import InvalidCondition, InvalidGap, InvalidStretch, Inv
 from batchlimits.rules import (
     MEASURES, all_of, any_of, first_reach, is_condition, is_rule, limits_of, reaches,
 )
-from tests.test_items import measured_slowly, wrong_traffics
+from tests.slow import measured_slowly, reached_slowly
+from tests.test_items import wrong_traffics
 from tests.values import (
-    HUGE, Equal, Plain, nested_conditions, nested_lists, odd_values, ones, random_condition, random_traffic, source,
-    weights,
+    HUGE, Equal, Plain, long_traffic, nested_conditions, nested_lists, odd_values, ones, random_condition,
+    random_traffic, source, weights,
 )
 
 LIMIT = ("items", 3)
@@ -53,15 +54,6 @@ def wrong_conditions():
         ("all", [LIMIT, ("any", [LIMIT])]), ("all", [("any", [LIMIT, LIMIT]), ("any", [])]),
         ("any", [LIMIT, nested_lists(97)]), ("all", [nested_conditions(49, 2), LIMIT]),
     ]
-
-
-def reached_slowly(traffic, condition, start, end):
-    """Return whether a stretch reaches a condition, as the definition says."""
-    word, rest = condition
-    if word in MEASURES:
-        return measured_slowly(traffic, start, end)[MEASURES.index(word)] >= rest
-    reached = [reached_slowly(traffic, part, start, end) for part in rest]
-    return True in reached if word == "any" else False not in reached
 
 
 class IsConditionTest(unittest.TestCase):
@@ -115,6 +107,16 @@ class IsConditionTest(unittest.TestCase):
                 self.assertIs(is_condition(last), False, last)
 
 
+def wrong_rules():
+    """Return values of all kinds that are no rule."""
+    wrong = [value for value in wrong_conditions() if value is not None]
+    pairs = [[(value, None), (None, value), (value, LIMIT), (LIMIT, value), (value, value)] for value in wrong]
+    return odd_values() + sum(pairs, []) + [
+        LIMIT, DEEP, [None, None], [LIMIT, None], (LIMIT,), (None,), (), (None, None, None),
+        (LIMIT, None, None), ((LIMIT, None),), {"goal": None, "cap": None}, ((LIMIT, LIMIT), None),
+    ]
+
+
 class IsRuleTest(unittest.TestCase):
     def test_rules(self):
         for goal in [None, LIMIT, DEEP, ("all", [LIMIT] * 6)]:
@@ -122,20 +124,10 @@ class IsRuleTest(unittest.TestCase):
                 with self.subTest(goal=goal, cap=cap):
                     self.assertIs(is_rule((goal, cap)), True)
 
-    def test_wrong_forms(self):
-        forms = [
-            LIMIT, DEEP, [None, None], [LIMIT, None], (LIMIT,), (None,), (), (None, None, None),
-            (LIMIT, None, None), ((LIMIT, None),), {"goal": None, "cap": None}, ((LIMIT, LIMIT), None),
-        ]
-        for at, value in enumerate(odd_values() + forms):
+    def test_wrong_rules(self):
+        for at, value in enumerate(wrong_rules()):
             with self.subTest(at=at):
                 self.assertIs(is_rule(value), False)
-
-    def test_wrong_parts(self):
-        for value in wrong_conditions():
-            if value is not None:
-                for rule in [(value, None), (None, value), (value, LIMIT), (LIMIT, value), (value, value)]:
-                    self.assertIs(is_rule(rule), False)
 
 
 class JoiningTest(unittest.TestCase):
@@ -366,12 +358,8 @@ class FirstReachTest(unittest.TestCase):
 
     def test_every_measure_on_long_traffic(self):
         numbers = source(7)
-        letters = "abcdefghijklmnopqrst"
         for _ in range(3):
-            traffic = [
-                (numbers.randrange(3), numbers.randrange(3), numbers.choice(letters), numbers.random() < 0.7)
-                for _ in range(40)
-            ]
+            traffic = long_traffic(numbers)
             for start in range(41):
                 measured = [measured_slowly(traffic, start, end) for end in range(start + 1, 41)]
                 for at, measure in enumerate(MEASURES):

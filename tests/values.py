@@ -86,6 +86,20 @@ def condition_with(source, limits):
     return (source.choice(("any", "all")), [condition_with(source, size) for size in sizes])
 
 
+def random_rule(source, most=3):
+    """Return a random rule; its goal and its cap may be None, or the same."""
+    goal, cap = [source.choice([None, random_condition(source, most), random_condition(source, most)]) for _ in "gc"]
+    return (goal, goal if source.random() < 0.1 else cap)
+
+
+def long_traffic(source):
+    """Return a traffic of 40 random items with small numbers and many kinds."""
+    letters = "abcdefghijklmnopqrst"
+    return [
+        (source.randrange(4), source.randrange(4), source.choice(letters), source.random() < 0.5) for _ in range(40)
+    ]
+
+
 def source(seed):
     """Return a source of random numbers that is the same in every run."""
     return random.Random(seed)
