@@ -32,8 +32,7 @@ def added_by(traffic, rule, forced, gap):
 def costs_of(traffic, rule):
     """Return for each gap from 1 on how many more closings there are if this gap alone is forced."""
     nexts = nexts_of(traffic, rule)
-    # The last place is that of the rows that have ended.
-    behind = [0] * (len(nexts) + 1)
+    behind = [0] * len(nexts)
     for gap in range(len(traffic) - 1, -1, -1):
         if nexts[gap] < len(nexts):
             behind[gap] = behind[nexts[gap]] + 1

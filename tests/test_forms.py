@@ -155,6 +155,19 @@ class NormalFormTest(unittest.TestCase):
         self.assertEqual(normal_form(rule), ([], [(2, 0, 0, 1, 0)]))
         self.assertEqual(normal_form((("weight", 3), ("all", [("weight", 3), ("items", 2)])))[1], [(2, 3, 0, 1, 0)])
 
+    def test_what_a_stretch_has_without_its_last_item(self):
+        for goal, cap, stays in [
+            (("kinds", 2), [("kinds", 2), ("items", 3)], True), (("kinds", 2), [("kinds", 3), ("items", 3)], False),
+            (("marks", 1), [("marks", 1), ("items", 2)], True), (("marks", 1), [("marks", 2), ("items", 2)], False),
+            (("weight", 1), [("weight", 9), ("items", 9)], True), (("age", 1), [("age", 9), ("items", 9)], True),
+            (("items", 2), [("items", 2), ("kinds", 2), ("weight", 1)], True), (("items", 2), [("items", 3)] * 2, False),
+        ]:
+            with self.subTest(goal=goal, cap=cap):
+                rule = (goal, ("all", cap))
+                kept = clauses_of(("all", cap)) if stays else []
+                self.assertEqual(normal_form(rule), (clauses_of(goal), kept))
+                self.assertIs(are_alike(rule, (goal, None)), not stays)
+
     def test_the_three_steps(self):
         numbers = source(44)
         for _ in range(60):
