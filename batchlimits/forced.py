@@ -1,27 +1,22 @@
 """Closings with forced closings, and what these cost."""
 
-from batchlimits.checks import is_ascending, is_within
-from batchlimits.errors import InvalidGap, InvalidGaps
+from batchlimits.checks import is_within
+from batchlimits.errors import InvalidGap
+from batchlimits.items import check_gaps
 from batchlimits.nexts import closings_from, nexts_of, with_forced
-
-
-def check_forced(traffic, value):
-    """Raise InvalidGaps unless a value is a list of forced closings of a traffic."""
-    if not is_ascending(value, len(traffic)):
-        raise InvalidGaps("forced closings are a strictly ascending list of gaps from 1 to the number of items")
 
 
 def closings_with(traffic, rule, forced):
     """Return the list of the closings from 0 with forced closings."""
     nexts = nexts_of(traffic, rule)
-    check_forced(traffic, forced)
+    check_gaps(traffic, forced)
     return closings_from(with_forced(nexts, forced), 0)
 
 
 def added_by(traffic, rule, forced, gap):
     """Return how many more closings there are if one gap more is forced: 0 or 1."""
     nexts = nexts_of(traffic, rule)
-    check_forced(traffic, forced)
+    check_gaps(traffic, forced)
     if not is_within(gap, 1, len(traffic)):
         raise InvalidGap("a gap that is forced is an integer from 1 to the number of items")
     before = with_forced(nexts, forced)
@@ -50,7 +45,7 @@ def costs_of(traffic, rule):
 def fewest_forced(traffic, rule, told):
     """Return the list of the told gaps that are no closing from the told gap before, or from 0 for the first one."""
     nexts = nexts_of(traffic, rule)
-    check_forced(traffic, told)
+    check_gaps(traffic, told)
     needed = []
     row_gap = 0
     for gap in told:
@@ -65,7 +60,7 @@ def fewest_forced(traffic, rule, told):
 def is_enough(traffic, rule, told, forced):
     """Return whether all told gaps are closings with these forced closings."""
     nexts = nexts_of(traffic, rule)
-    check_forced(traffic, told)
-    check_forced(traffic, forced)
+    check_gaps(traffic, told)
+    check_gaps(traffic, forced)
     found = closings_from(with_forced(nexts, forced), 0)
     return all([gap in found for gap in told])

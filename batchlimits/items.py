@@ -1,7 +1,7 @@
 """Items and traffic: judging, measuring and repeating them."""
 
-from batchlimits.checks import GREATEST, is_within
-from batchlimits.errors import InvalidGap, InvalidNumber, InvalidStretch, InvalidTraffic, TooLarge
+from batchlimits.checks import GREATEST, is_ascending, is_within
+from batchlimits.errors import InvalidGap, InvalidGaps, InvalidNumber, InvalidStretch, InvalidTraffic, TooLarge
 
 MOST_ITEMS = 40
 MOST_LETTERS = 8
@@ -54,6 +54,12 @@ def check_gap(traffic, value):
     """Raise InvalidGap unless a value is a gap of a traffic."""
     if not is_gap(traffic, value):
         raise InvalidGap("a gap is an integer from 0 to the number of items")
+
+
+def check_gaps(traffic, value):
+    """Raise InvalidGaps unless a value is a strictly ascending list of gaps of a traffic from 1 on."""
+    if not is_ascending(value, len(traffic)):
+        raise InvalidGaps("closings are a strictly ascending list of gaps from 1 to the number of items")
 
 
 def check_stretch(traffic, start, end):

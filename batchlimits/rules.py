@@ -12,12 +12,17 @@ HIGHEST_COUNT = 40
 MOST_LIMITS = 6
 
 
+def is_measure(value):
+    """Return whether any value is one of the five words for measures."""
+    return isinstance(value, str) and value in MEASURES
+
+
 def is_limit(value):
     """Return whether any value is a limit (measure, bound)."""
     if not isinstance(value, tuple) or len(value) != 2:
         return False
     measure, bound = value
-    if not isinstance(measure, str) or measure not in MEASURES:
+    if not is_measure(measure):
         return False
     return is_within(bound, 1, GREATEST if measure in WIDE_MEASURES else HIGHEST_COUNT)
 

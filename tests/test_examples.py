@@ -53,8 +53,8 @@ class ExamplesTest(unittest.TestCase):
 
     def test_all_examples_are_read(self):
         points = [point for point, _, _ in read_examples(PATH.read_text())]
-        twice = [15, 16, 17, 32]
-        self.assertEqual(points, sorted([*range(15, 39), *twice]))
+        twice = [15, 16, 17, 32, 39, 41, 44, 52]
+        self.assertEqual(points, sorted([*range(15, 54), *twice]))
 
     def test_readme_shows_what_the_program_does(self):
         found = doctest.testfile(str(PATH.parent.parent / "README.md"), module_relative=False)

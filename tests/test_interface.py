@@ -37,6 +37,21 @@ FUNCTIONS = {
         "costs_of": "(traffic, rule)", "fewest_forced": "(traffic, rule, told)",
         "is_enough": "(traffic, rule, told, forced)",
     },
+    "joined": {
+        "latest_plan": "(traffic, rule, joined)", "fewest_forced_plan": "(traffic, rule, joined)",
+        "forced_in": "(traffic, rule, closings)", "obstruction_of": "(traffic, rule, joined)",
+        "is_obstruction": "(traffic, rule, joined, value)", "count_plans": "(traffic, rule, joined)",
+    },
+    "edits": {
+        "is_edit": "(traffic, value)", "edited": "(traffic, edit)", "added_closings": "(traffic, rule, edit)",
+        "edit_bounds": "(traffic, rule, edit)", "agree_from": "(traffic, rule, edit)",
+        "new_batches": "(traffic, rule, edit)",
+    },
+    "explaining": {
+        "explains": "(traffic, rule, closings)", "goal_range": "(traffic, closings, measure)",
+        "cap_range": "(traffic, closings, measure)", "least_goals": "(traffic, closings, measures)",
+        "open_stretch": "(traffic, closings, batch, measure)",
+    },
 }
 ERRORS = (
     "BatchError", "InvalidItem", "InvalidTraffic", "InvalidStretch", "InvalidCondition", "InvalidRule",
