@@ -3,7 +3,7 @@
 from batchlimits.checks import is_within
 from batchlimits.errors import InvalidGap, InvalidItem
 from batchlimits.items import check_gap, check_traffic, is_gap
-from batchlimits.nexts import cap_gaps, closings_from, gap_or_none, goal_gaps, nexts_of
+from batchlimits.nexts import cap_gaps, closings_from, gap_or_none, goal_gaps, nexts_of, rest_start
 from batchlimits.rules import check_rule
 
 
@@ -23,8 +23,7 @@ def closings(traffic, rule, *, start=0):
 
 def rest_of(traffic, rule):
     """Return the gap at which the rest begins: the last closing from 0, or 0."""
-    found = closings_from(nexts_of(traffic, rule), 0)
-    return found[-1] if found else 0
+    return rest_start(closings_from(nexts_of(traffic, rule), 0))
 
 
 def reason_at(goal_gap, cap_gap):

@@ -7,7 +7,7 @@ must stay open. So the bounds begin behind the greatest measure of the latter an
 from batchlimits.checks import is_within
 from batchlimits.errors import InvalidMeasure, InvalidStretch, Unexplained
 from batchlimits.items import check_gaps, check_traffic, measured
-from batchlimits.nexts import closings_from, nexts_of
+from batchlimits.nexts import closings_from, nexts_of, rest_start
 from batchlimits.rules import MEASURES, is_measure
 
 
@@ -42,17 +42,12 @@ def batches_to(closings):
     return list(zip([0, *closings], closings))
 
 
-def rest_to(traffic, closings):
-    """Return the stretch behind the last told closing; its start and its end are the same if it has no items."""
-    return (closings[-1] if closings else 0, len(traffic))
-
-
 def open_stretches(traffic, closings):
     """Return the list of the stretches that no goal may reach: batches without their last items, and the rest."""
     found = [(start, end - 1) for start, end in batches_to(closings) if end - start >= 2]
-    start, end = rest_to(traffic, closings)
-    if start < end:
-        found.append((start, end))
+    start = rest_start(closings)
+    if start < len(traffic):
+        found.append((start, len(traffic)))
     return found
 
 
@@ -97,9 +92,9 @@ def cap_range(traffic, closings, measure):
     if closings and closings[-1] == len(traffic):
         return None
     batches = batches_to(closings)
-    # The cap lets a single item pass, whatever it is.
-    stretches = [(start, end) for start, end in batches + [rest_to(traffic, closings)] if end - start >= 2]
-    opened = all_measures(traffic, stretches)
+    # A single item may reach the cap by itself.
+    stretches = [*batches, (rest_start(closings), len(traffic))]
+    opened = all_measures(traffic, [(start, end) for start, end in stretches if end - start >= 2])
     reached = all_measures(traffic, [(start, end + 1) for start, end in batches])
     return bounds_between(amounts_of(opened, measure), amounts_of(reached, measure))
 

@@ -62,6 +62,11 @@ def closings_from(nexts, start):
     return found
 
 
+def rest_start(closings):
+    """Return the gap at which the rest begins: the last of the closings, or 0."""
+    return closings[-1] if closings else 0
+
+
 def with_forced(nexts, forced):
     """Return the next closings of all gaps with forced closings besides."""
     merged = list(nexts)

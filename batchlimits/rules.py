@@ -82,6 +82,12 @@ def copied(condition):
     return (word, [copied(part) for part in rest])
 
 
+def copied_rule(rule):
+    """Return a new rule that is equal to this one."""
+    goal, cap = rule
+    return (None if goal is None else copied(goal), None if cap is None else copied(cap))
+
+
 def listed_limits(condition):
     """Return the limits of what is known to be a condition, from left to right."""
     if condition[0] in MEASURES:

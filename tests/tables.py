@@ -3,13 +3,19 @@
 import copy
 import itertools
 
-from batchlimits import closings, edits, errors, explaining, forced, forms, items, joined, rows, rules
+from batchlimits import (
+    closings, edits, errors, explaining, forced, forms, items, joined, repeats, rows, rules, texts,
+)
+from batchlimits.console import Console
+from batchlimits.live import Batcher
 from tests.test_edits import ITEM, wrong_edits
 from tests.test_explaining import wrong_batches, wrong_measure_lists, wrong_measures
 from tests.test_forced import wrong_lists
 from tests.test_items import wrong_traffics
+from tests.test_live import state_of
+from tests.test_repeats import NO_FAR_GAPS
 from tests.test_rules import wrong_conditions, wrong_rules
-from tests.values import HUGE, odd_values, weights
+from tests.values import HUGE, odd_values, ones, weights
 
 TRAFFIC = weights(2, 1, 3, 1, 2, 2, 1, 3)
 NO_INTEGERS = [value for value in odd_values() if value.__class__ is not int]
@@ -17,6 +23,10 @@ WRONG_GAPS = NO_INTEGERS + [-1, -HUGE, 9, HUGE]
 ODD_LISTS = [value for value in odd_values() if value != []]
 WRONG_LISTS = ODD_LISTS + wrong_lists(8)
 WRONG_BATCHES = [value for value in wrong_batches() if value != (0, 3)] + [(0, 6), (3, 8), (0, 1), (1, 3)]
+WRONG_ITEMS = odd_values() + [list(ITEM), ITEM[:3], [ITEM], (ITEM,), (True, *ITEM[1:]), (*ITEM[:3], 1)]
+WRONG_PATTERNS = wrong_traffics() + [[], ones(21), ones(40)]
+WRONG_TEXTS = [value for value in odd_values() if value != ""] + [" ", "0/5/A", "any(", "items>=41", "goal none cap "]
+WRONG_ROWS = odd_values() + ["rule", "add", "reason", "meet 1", "bounds 3", "plan x", "force ", "undo\n", "form 1"]
 
 # Each kind of argument: valid values, values of all kinds that are wrong, the error.
 RULES = [(("weight", 4), None), (("any", [("weight", 4), ("items", 3)]), ("all", [("items", 3), ("weight", 6)]))]
@@ -44,6 +54,18 @@ KINDS = {
     "measure": (["items", "marks"], wrong_measures(), errors.InvalidMeasure),
     "measures": (MEASURES, wrong_measure_lists(), errors.InvalidMeasure),
     "edit": (EDITS, wrong_edits(), errors.InvalidEdit),
+    "item": ([ITEM], WRONG_ITEMS, errors.InvalidItem),
+    "forced list": ([[], [3, 4]], [value for value in WRONG_LISTS if value is not None], errors.InvalidGaps),
+    "traffic text": (["", "0/5/a 2/3/b!"], WRONG_TEXTS, errors.InvalidText),
+    "condition text": (["items>=3", "any( age>=9 kinds>=2 )"], WRONG_TEXTS + [""], errors.InvalidText),
+    "rule text": (["goal none cap all( weight>=5 age>=9 )"], WRONG_TEXTS + [""], errors.InvalidText),
+    "row": (["force", "add 0/5/a", "rule goal none cap none", "form"], WRONG_ROWS, errors.InvalidCommand),
+    "pattern": ([TRAFFIC, TRAFFIC[:3]], WRONG_PATTERNS, errors.InvalidPattern),
+    "far start": ([0, 5], NO_FAR_GAPS + [HUGE], errors.InvalidStretch),
+    "far end": ([6, HUGE], NO_FAR_GAPS + [0], errors.InvalidStretch),
+    "far gap": ([0, 7, HUGE // 2], NO_FAR_GAPS, errors.InvalidGap),
+    "later far gap": ([HUGE], NO_FAR_GAPS, errors.InvalidGap),
+    "far number": ([1, HUGE], NO_INTEGERS + [0, -1, HUGE + 1], errors.InvalidNumber),
 }
 # What the lists of these kinds are changed to, in place.
 CHANGED = {"gaps": [2, 3], "joined": [4], "plan": [1, 2, 3], "told": [3, 6], "measures": ["kinds", "weight"]}
@@ -97,6 +119,26 @@ CALLS = [
     (explaining.cap_range, "traffic", "told", "measure"),
     (explaining.least_goals, "traffic", "told", "measures"),
     (explaining.open_stretch, "traffic", "told", "batch", "measure"),
+    (lambda rule: state_of(Batcher(rule)), "rule"),
+    (lambda item: Batcher(RULES[0]).add(item), "item"),
+    (lambda rule, traffic: state_of(Batcher.replay(rule, traffic)), "rule", "traffic"),
+    (
+        lambda rule, traffic, gaps: state_of(Batcher.replay(rule, traffic, forced=gaps)),
+        "rule", "traffic", "forced list",
+    ),
+    (texts.format_traffic, "traffic"),
+    (texts.format_condition, "condition"),
+    (texts.format_rule, "rule"),
+    (texts.parse_traffic, "traffic text"),
+    (texts.parse_condition, "condition text"),
+    (texts.parse_rule, "rule text"),
+    (lambda row: Console().execute(row), "row"),
+    (repeats.far_measures, "pattern", "far start", "far end"),
+    (repeats.far_closing, "pattern", "rule", "far gap"),
+    (repeats.nth_closing, "pattern", "rule", "far gap", "far number"),
+    (repeats.count_closings, "pattern", "rule", "far gap", "later far gap"),
+    (repeats.round_of, "pattern", "rule", "far gap"),
+    (repeats.far_meeting, "pattern", "rule", "far gap", "far gap"),
 ]
 
 
@@ -113,7 +155,7 @@ def spread(values, many):
 
 def change_argument(kind, value):
     """Change an argument in place, if it can be changed, so that it is still one of its kind."""
-    if kind == "traffic":
+    if kind in ("traffic", "pattern"):
         value.insert(0, (1, 3, "b", True))
     if kind == "rule" and value == RULES[1]:
         value[0][1].append(("marks", 1))

@@ -53,8 +53,9 @@ class ExamplesTest(unittest.TestCase):
 
     def test_all_examples_are_read(self):
         points = [point for point, _, _ in read_examples(PATH.read_text())]
-        twice = [15, 16, 17, 32, 39, 41, 44, 52]
-        self.assertEqual(points, sorted([*range(15, 54), *twice]))
+        # Some points have two or three examples, and those of points 62 and 63 stand at point 64.
+        more = [15, 16, 17, 32, 39, 41, 44, 52, 61, 61]
+        self.assertEqual(points, sorted([*range(15, 62), *range(64, 70), *more]))
 
     def test_readme_shows_what_the_program_does(self):
         found = doctest.testfile(str(PATH.parent.parent / "README.md"), module_relative=False)

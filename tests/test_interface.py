@@ -52,6 +52,25 @@ FUNCTIONS = {
         "cap_range": "(traffic, closings, measure)", "least_goals": "(traffic, closings, measures)",
         "open_stretch": "(traffic, closings, batch, measure)",
     },
+    "texts": {
+        "format_traffic": "(traffic)", "format_condition": "(condition)", "format_rule": "(rule)",
+        "parse_traffic": "(text)", "parse_condition": "(text)", "parse_rule": "(text)",
+    },
+    "repeats": {
+        "far_measures": "(pattern, start, end)", "far_closing": "(pattern, rule, start)",
+        "nth_closing": "(pattern, rule, start, number)", "count_closings": "(pattern, rule, start, end)",
+        "round_of": "(pattern, rule, start)", "far_meeting": "(pattern, rule, first, second)",
+    },
+}
+CLASSES = {
+    "live": {
+        "Batcher": {
+            "__init__": "(self, rule)", "add": "(self, item)", "force": "(self)", "undo": "(self)", "fork": "(self)",
+            "replay": "(cls, rule, traffic, *, forced=None)", "__len__": "(self)", "__eq__": "(self, other)",
+            "rule": "(self)", "traffic": "(self)", "closings": "(self)", "forced": "(self)", "rest": "(self)",
+        },
+    },
+    "console": {"Console": {"__init__": "(self)", "execute": "(self, row)"}},
 }
 ERRORS = (
     "BatchError", "InvalidItem", "InvalidTraffic", "InvalidStretch", "InvalidCondition", "InvalidRule",
@@ -70,6 +89,18 @@ class InterfaceTest(unittest.TestCase):
                     self.assertTrue(inspect.isfunction(function))
                     self.assertEqual(function.__module__, module.__name__)
                     self.assertEqual(str(inspect.signature(function)), signature)
+
+    def test_classes_and_their_methods_are_defined_in_their_files(self):
+        for file, classes in CLASSES.items():
+            module = importlib.import_module(f"batchlimits.{file}")
+            for name, methods in classes.items():
+                kind = getattr(module, name)
+                self.assertEqual(kind.__module__, module.__name__)
+                for method, signature in methods.items():
+                    with self.subTest(kind=name, method=method):
+                        found = vars(kind)[method]
+                        function = getattr(found, "fget", None) or getattr(found, "__func__", found)
+                        self.assertEqual(str(inspect.signature(function)), signature)
 
     def test_errors_are_defined_in_their_file(self):
         module = importlib.import_module("batchlimits.errors")
