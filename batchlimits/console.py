@@ -1,11 +1,10 @@
 """A console: rows of text that change a batcher or ask about it."""
 
 from batchlimits.closings import reason_of
-from batchlimits.errors import InvalidCommand, NothingToUndo, TooLarge
+from batchlimits.errors import InvalidCommand, NothingToUndo
 from batchlimits.explaining import goal_range
 from batchlimits.forced import fewest_forced
 from batchlimits.forms import normal_form
-from batchlimits.items import MOST_ITEMS
 from batchlimits.joined import latest_plan
 from batchlimits.live import Batcher
 from batchlimits.rows import meeting
@@ -144,8 +143,7 @@ class Console:
     def _add_all(self, text):
         """Add all items of a text, or none of them."""
         traffic = parse_traffic(text)
-        if len(self._batcher) + len(traffic) > MOST_ITEMS:
-            raise TooLarge(MOST_ITEMS)
+        # If there are too many items, only the fork has taken some of them.
         batcher = self._batcher.fork()
         closed = []
         for item in traffic:

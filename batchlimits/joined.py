@@ -62,8 +62,7 @@ def latest_plan(traffic, rule, joined):
 def cheapest_steps(nexts, latest):
     """Return for each gap the closing behind it in a plan with the fewest forced closings."""
     steps = list(nexts)
-    # The last place is for plans that have ended.
-    fewest = [0] * (len(nexts) + 1)
+    fewest = [0] * len(nexts)
     for gap in range(len(nexts) - 1, -1, -1):
         closing = nexts[gap]
         if closing == len(nexts):
@@ -74,8 +73,9 @@ def cheapest_steps(nexts, latest):
             fewest[gap] = fewest[closing]
             continue
         free = [(fewest[other], other) for other in range(gap + 1, closing) if latest[other] == other]
-        many, steps[gap] = min(free)
-        fewest[gap] = many + 1
+        least = min(free)
+        steps[gap] = least[1]
+        fewest[gap] = least[0] + 1
     return steps
 
 

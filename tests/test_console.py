@@ -284,6 +284,8 @@ class ErrorsTest(unittest.TestCase):
             "plan ", "plan  3", "plan 3 ", "plan 3  4", "plan x", "plan 3,4", "plan 3 x",
             "fewest ", "fewest  3", "fewest 3 ", "fewest x", "fewest 3 none",
             "bounds", "bounds ", "bounds  items", "bounds items ", "bounds items weight", "bounds Items", "bounds 3",
+            "force items", "undo items", "closings items", "rest weight", "form items", "reason items", "meet items",
+            "plan items", "fewest items", "close items", "items", "items items",
             "bounds pause", "bounds any", " bounds items", " add 0/1/a", " rule goal none cap none",
         ]:
             with self.subTest(row=row), self.assertRaises(InvalidCommand):

@@ -13,6 +13,9 @@ BUILTINS = (
     "NotImplemented", "property", "classmethod", "staticmethod",
 )
 
+WORDS = ("register", "mro", "elements", "open", "input", "law", "exit", "id", "compile", "vars", "dir", "help")
+STRINGS = ("type", "typing", "enum", "Enum", "Flag", "Generic", "Protocol", "ABC", "namedtuple", "dataclass")
+
 
 def files():
     return sorted(FOLDER.glob("*.py"))
@@ -71,3 +74,35 @@ class LanguageTest(unittest.TestCase):
             with self.subTest(file=path.name):
                 self.assertEqual(nodes(path, (ast.Div, ast.Global, ast.AsyncFunctionDef)), [])
                 self.assertFalse([node for node in nodes(path, ast.Constant) if isinstance(node.value, float)])
+
+    def test_names_and_strings(self):
+        for path in files():
+            names = bound_names(path)
+            names += [node.arg for node in nodes(path, ast.arg)] + [node.attr for node in nodes(path, ast.Attribute)]
+            strings = [node.value for node in nodes(path, ast.Constant) if isinstance(node.value, str)]
+            with self.subTest(file=path.name):
+                self.assertEqual(set(names) & set(WORDS), set())
+                self.assertFalse([text for text in strings if "\u0025" in text])
+                self.assertFalse([text for text in strings if set(text.split()) & set(STRINGS)])
+
+    def test_names_are_bound_once_and_imports_stay(self):
+        for path in files():
+            tree = ast.parse(path.read_text())
+            imported = [alias.name for node in nodes(path, ast.ImportFrom) for alias in node.names]
+            own = [node.name for node in tree.body if isinstance(node, (ast.FunctionDef, ast.ClassDef))]
+            own += [target.id for node in tree.body if isinstance(node, ast.Assign) for target in node.targets]
+            local = [node.arg for node in nodes(path, ast.arg)]
+            local += [node.id for node in nodes(path, ast.Name) if isinstance(node.ctx, ast.Store)]
+            with self.subTest(file=path.name):
+                self.assertEqual(len(set(imported + own)), len(imported + own))
+                self.assertEqual(set(local) & set(imported), set())
+                # Each import is used.
+                used = [node.id for node in nodes(path, ast.Name) if isinstance(node.ctx, ast.Load)]
+                self.assertEqual(set(imported) - set(used), set())
+
+    def test_nothing_is_caught_and_no_function_has_decorators(self):
+        for path in files():
+            with self.subTest(file=path.name):
+                self.assertEqual(nodes(path, (ast.Try, ast.With, ast.Lambda)), [])
+                for node in ast.parse(path.read_text()).body:
+                    self.assertEqual(getattr(node, "decorator_list", []), [])
